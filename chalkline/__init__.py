@@ -1,0 +1,1 @@
+"""Chalkline: pegs and chalk lines, and nothing else."""
