@@ -52,7 +52,20 @@ def divisor(one, other):
 
 def lies(place, line):
     """Whether a place lies on a line."""
-    return place[0] * line[0] + place[1] * line[1] + place[2] * line[2] == 0
+    return dot(place, line) == 0
+
+
+def dot(one, other):
+    """The sum of the products of like numbers of two threes."""
+    return one[0] * other[0] + one[1] * other[1] + one[2] * other[2]
+
+
+def cross(one, other):
+    """Three numbers whose dot with either three is 0."""
+    x = one[1] * other[2] - one[2] * other[1]
+    y = one[2] * other[0] - one[0] * other[2]
+    z = one[0] * other[1] - one[1] * other[0]
+    return (x, y, z)
 
 
 def through(one, other):
@@ -69,10 +82,7 @@ def between_two(one, other):
     """What lies on both: places and lines have one form, so one sum serves for both."""
     if one == other:
         raise Same()
-    x = one[1] * other[2] - one[2] * other[1]
-    y = one[2] * other[0] - one[0] * other[2]
-    z = one[0] * other[1] - one[1] * other[0]
-    return in_form((x, y, z))
+    return in_form(cross(one, other))
 
 
 def on_one(places):

@@ -22,6 +22,7 @@ METHODS = (
     "items join keys ljust lower lstrip partition pop remove replace reverse rfind rjust rpartition rsplit rstrip "
     "setdefault split splitlines startswith strip update upper values zfill bit_length"
 ).split()
+WALKERS = "list tuple dict sorted sum any all enumerate zip".split()
 TWO_UNDERSCORES = ["__init__", "__eq__", "__repr__", "__str__", "__len__"]
 BANNED_NAMES = (
     "register mro elements open input version_info with_traceback add_note attrgetter breakpoint builtins compile "
@@ -151,6 +152,27 @@ def method_faults(path, own_methods):
                 yield f"L25: {node.func.attr} at row {node.lineno}"
 
 
+def walk_faults(tree):
+    """What is wrong with what is to be walked on the spot, with sets, and with signs in texts."""
+    above = {inner: node for node in ast.walk(tree) for inner in ast.iter_child_nodes(node)}
+    for node in ast.walk(tree):
+        if isinstance(node, ast.Constant) and isinstance(node.value, str) and re.search(r"%|[^ -~\n\t]", node.value):
+            yield f"L27: the text at row {node.lineno}"
+        if not isinstance(node, ast.Call):
+            continue
+        called = node.func.id if isinstance(node.func, ast.Name) else getattr(node.func, "attr", "")
+        around = above[node]
+        caller = around.func.id if isinstance(around, ast.Call) and isinstance(around.func, ast.Name) else ""
+        if called in ("zip", "enumerate", "reversed", "range", "items", "keys", "values"):
+            looped = isinstance(around, (ast.For, ast.comprehension)) and around.iter is node
+            first = caller in WALKERS and around.args[0] is node
+            if not looped and not first and not (caller in ("min", "max") and around.args == [node]):
+                yield f"L23: {called} at row {node.lineno}"
+        if called in ("set", "frozenset") and not isinstance(around, (ast.Compare, ast.BinOp)):
+            if caller not in ("len", "sorted"):
+                yield f"L24: a set at row {node.lineno}"
+
+
 def methods_of_the_program():
     methods = []
     for path in FILES:
@@ -158,6 +180,15 @@ def methods_of_the_program():
             if isinstance(node, ast.ClassDef):
                 methods += [inner.name for inner in node.body if isinstance(inner, ast.FunctionDef)]
     return methods
+
+
+def values_of_the_program():
+    values = []
+    for path in FILES:
+        for node in ast.walk(ast.parse(path.read_text())):
+            if isinstance(node, ast.Attribute) and isinstance(node.ctx, ast.Store):
+                values.append(node.attr)
+    return values
 
 
 class TheLanguage(unittest.TestCase):
@@ -174,7 +205,21 @@ class TheLanguage(unittest.TestCase):
             with self.subTest(path.name):
                 faults = list(text_faults(path)) + list(name_faults(tree)) + list(node_faults(tree))
                 faults += list(import_faults(tree)) + list(method_faults(path, methods_of_the_program()))
+                faults += list(walk_faults(tree))
                 self.assertEqual(faults, [])
+
+    def test_no_name_is_a_method_and_a_value(self):
+        self.assertEqual(set(methods_of_the_program()) & set(values_of_the_program()), set())
+
+    def test_the_faults_are_found(self):
+        for text in [
+            "a = zip(b)", "a = [range(3)]", "f(enumerate(a))", "a = d.items()", "a = list(b, range(3))", "a = set(b)",
+            "f(set(b))", "a = 'b%'", "a = 'b\\x00'",
+        ]:
+            with self.subTest(text):
+                self.assertEqual(len(list(walk_faults(ast.parse(text)))), 1)
+        for text in ["for a in zip(b):\n    pass", "a = [b for b in range(3)]", "a = len(set(b))", "a = dict(zip(b, c))"]:
+            self.assertEqual(list(walk_faults(ast.parse(text))), [])
 
     def test_no_two_files_draw_from_one_another(self):
         draws = {}
