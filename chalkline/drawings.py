@@ -32,9 +32,14 @@ class Reader:
 
 def is_name(thing):
     """Whether a thing is a name: one to eight small letters, but no word that rows are made of."""
+    return is_word(thing) and thing not in NO_NAMES
+
+
+def is_word(thing):
+    """Whether a thing is a text of one to eight small letters."""
     if not isinstance(thing, str) or not 1 <= len(thing) <= MOST_LETTERS:
         return False
-    return all([sign in LETTERS for sign in thing]) and thing not in NO_NAMES
+    return all([sign in LETTERS for sign in thing])
 
 
 def read_drawing(text):

