@@ -86,6 +86,18 @@ def name_faults(tree):
             yield f"L8: {node.id} at row {node.lineno}"
 
 
+def clash_faults(tree):
+    """Parameters and locals that are called like a class or an import of their file."""
+    taken = [node.name for node in tree.body if isinstance(node, ast.ClassDef)]
+    for node in tree.body:
+        if isinstance(node, ast.ImportFrom):
+            taken += [alias.name for alias in node.names]
+    for node in ast.walk(tree):
+        name = node.arg if isinstance(node, ast.arg) else getattr(node, "id", None)
+        if name in taken and not isinstance(getattr(node, "ctx", None), ast.Load):
+            yield f"L15: {name} at row {node.lineno}"
+
+
 def node_faults(tree):
     """What is wrong with the statements and expressions of a file."""
     for node in ast.walk(tree):
@@ -112,6 +124,9 @@ def node_faults(tree):
         if isinstance(node, ast.Compare) and any(isinstance(sign, (ast.Is, ast.IsNot)) for sign in node.ops):
             if not all(isinstance(side, ast.Constant) for side in node.comparators):
                 yield f"L20: is {where}"
+        if isinstance(node, ast.BinOp) and isinstance(node.op, ast.Pow):
+            if not isinstance(node.right, ast.Constant) or not 0 <= node.right.value <= 64:
+                yield f"L27: a power {where}"
         if isinstance(node, ast.ExceptHandler) and node.type is None:
             yield f"L6: except without a class {where}"
 
@@ -205,7 +220,7 @@ class TheLanguage(unittest.TestCase):
             with self.subTest(path.name):
                 faults = list(text_faults(path)) + list(name_faults(tree)) + list(node_faults(tree))
                 faults += list(import_faults(tree)) + list(method_faults(path, methods_of_the_program()))
-                faults += list(walk_faults(tree))
+                faults += list(walk_faults(tree)) + list(clash_faults(tree))
                 self.assertEqual(faults, [])
 
     def test_no_name_is_a_method_and_a_value(self):
@@ -218,6 +233,10 @@ class TheLanguage(unittest.TestCase):
         ]:
             with self.subTest(text):
                 self.assertEqual(len(list(walk_faults(ast.parse(text)))), 1)
+        for text in ["a = 2 ** b", "a = 2 ** 65"]:
+            self.assertEqual(len(list(node_faults(ast.parse(text)))), 1)
+        for text in ["def f(led):\n    pass", "def f(a):\n    led = a", "def f(a):\n    return [led for led in a]"]:
+            self.assertEqual(len(list(clash_faults(ast.parse("from chalkline.changes import led\n" + text)))), 1)
         for text in ["for a in zip(b):\n    pass", "a = [b for b in range(3)]", "a = len(set(b))", "a = dict(zip(b, c))"]:
             self.assertEqual(list(walk_faults(ast.parse(text))), [])
 
