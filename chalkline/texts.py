@@ -1,6 +1,7 @@
-"""Texts: plans written and read."""
+"""Texts: plans and places written and read."""
 
 from chalkline.errors import NoText
+from chalkline.places import is_place
 
 FIGURES = "0123456789"
 
@@ -40,3 +41,26 @@ def read_number(word):
     if word[0] == "0" and word != "0":
         raise NoText("a number has no nought ahead")
     return int(word)
+
+
+def shown_place(place):
+    """The text that writes a place."""
+    return ",".join([str(number) for number in place])
+
+
+def read_place(text):
+    """The place that a text writes."""
+    place = tuple([read_signed(word) for word in text.split(",")])
+    if not is_place(place):
+        raise NoText("a place is written as X,Y,Z in its form")
+    return place
+
+
+def read_signed(word):
+    """The number that a word writes by figures, below 0 with a sign ahead."""
+    if not word.startswith("-"):
+        return read_number(word)
+    number = read_number(word[1:])
+    if number == 0:
+        raise NoText("0 has no sign ahead")
+    return -number

@@ -188,6 +188,26 @@ def walk_faults(tree):
                 yield f"L24: a set at row {node.lineno}"
 
 
+def kept_faults(tree):
+    """Lists and dicts of a file's top that hold such, or are handed on or given back otherwise than as a copy."""
+    tops = [node for node in tree.body if isinstance(node, ast.Assign) and isinstance(node.value, (ast.List, ast.Dict))]
+    names = [node.targets[0].id for node in tops]
+    for node in tops:
+        if any(isinstance(inner, (ast.List, ast.Dict)) for inner in ast.walk(node.value) if inner is not node.value):
+            yield f"L15: {node.targets[0].id} holds a list or dict"
+    above = {inner: node for node in ast.walk(tree) for inner in ast.iter_child_nodes(node)}
+    for node in ast.walk(tree):
+        if not isinstance(node, ast.Name) or node.id not in names or not isinstance(node.ctx, ast.Load):
+            continue
+        around = above[node]
+        indexed = isinstance(around, ast.Subscript) and around.value is node and isinstance(around.ctx, ast.Load)
+        looped = isinstance(around, (ast.For, ast.comprehension)) and around.iter is node
+        copied = isinstance(around, ast.Call) and getattr(around.func, "id", "") in WALKERS + ["len", "min", "max"]
+        got = isinstance(around, ast.Attribute) and around.attr in ("get", "items", "keys", "values", "copy", "index", "count")
+        if not (indexed or looped or copied or got or isinstance(around, ast.Compare)):
+            yield f"L15: {node.id} at row {node.lineno}"
+
+
 def methods_of_the_program():
     methods = []
     for path in FILES:
@@ -220,7 +240,7 @@ class TheLanguage(unittest.TestCase):
             with self.subTest(path.name):
                 faults = list(text_faults(path)) + list(name_faults(tree)) + list(node_faults(tree))
                 faults += list(import_faults(tree)) + list(method_faults(path, methods_of_the_program()))
-                faults += list(walk_faults(tree)) + list(clash_faults(tree))
+                faults += list(walk_faults(tree)) + list(clash_faults(tree)) + list(kept_faults(tree))
                 self.assertEqual(faults, [])
 
     def test_no_name_is_a_method_and_a_value(self):
@@ -237,6 +257,12 @@ class TheLanguage(unittest.TestCase):
             self.assertEqual(len(list(node_faults(ast.parse(text)))), 1)
         for text in ["def f(led):\n    pass", "def f(a):\n    led = a", "def f(a):\n    return [led for led in a]"]:
             self.assertEqual(len(list(clash_faults(ast.parse("from chalkline.changes import led\n" + text)))), 1)
+        for text in ["f(T)", "T.append(1)", "return T", "T[0] = 1", "a = T", "a = T + [1]", "a = [T]", "T.pop()"]:
+            with self.subTest(text):
+                self.assertEqual(len(list(kept_faults(ast.parse("T = [1, 2]\ndef g():\n    " + text)))), 1)
+        for text in ["f(list(T))", "return T[0]", "a = 1 in T", "a = [b for b in T]", "a = len(T)"]:
+            self.assertEqual(list(kept_faults(ast.parse("T = [1, 2]\ndef g():\n    " + text))), [])
+        self.assertEqual(len(list(kept_faults(ast.parse("T = [[1], 2]")))), 1)
         for text in ["for a in zip(b):\n    pass", "a = [b for b in range(3)]", "a = len(set(b))", "a = dict(zip(b, c))"]:
             self.assertEqual(list(walk_faults(ast.parse(text))), [])
 
